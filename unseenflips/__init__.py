@@ -1,0 +1,1 @@
+"""Unseenflips: frames with flags and stuffed bits, and the wrong bits that nobody sees."""
