@@ -30,10 +30,13 @@ Lines:
 """
 
 import doctest
+import os
 import unittest
 
 from unseenflips.errors import InvalidRule
 from unseenflips.rules import Rule
+
+README = os.path.join(os.path.dirname(os.path.dirname(os.path.abspath(__file__))), "README.md")
 
 
 class Examples(unittest.TestCase):
@@ -42,6 +45,11 @@ class Examples(unittest.TestCase):
         told = []
         result = doctest.DocTestRunner(verbose=False).run(test, out=told.append)
         self.assertEqual((result.failed, result.attempted), (0, 11), "".join(told))
+
+    def test_readme(self):
+        result = doctest.testfile(README, module_relative=False)
+        self.assertEqual(result.failed, 0)
+        self.assertGreater(result.attempted, 0)
 
     def test_refused_rules(self):
         with self.assertRaises(InvalidRule) as caught:
