@@ -2,6 +2,7 @@
 
 import contextlib
 import itertools
+import random
 import signal
 
 from unseenflips.checks import Check
@@ -43,6 +44,53 @@ def rules(flag, stuffs, longest):
                 yield Rule(flag, list(zip(patterns, bits)))
             except InvalidRule:
                 pass
+
+
+def some_rules(many, seed):
+    """So many rules of all sorts: flags of 2 to 6 bits, up to two stuffs, patterns of 1 to 4 bits."""
+    chance = random.Random(seed)
+    made = 0
+    while made < many:
+        flag = "".join(chance.choice("01") for _ in range(chance.randint(2, 6)))
+        try:
+            yield Rule(flag, [some_stuff(chance, flag) for _ in range(chance.randint(0, 2))])
+            made += 1
+        except InvalidRule:
+            pass
+
+
+def some_stuff(chance, flag):
+    """A stuff; every other one breaks the flag somewhere, so that some of the rules are clean."""
+    size = chance.randint(1, 4)
+    if size < len(flag) and chance.random() < 0.5:
+        at = chance.randrange(len(flag) - size)
+        return flag[at:at + size], {"0": "1", "1": "0"}[flag[at + size]]
+    return "".join(chance.choice("01") for _ in range(size)), chance.choice("01")
+
+
+def plain_filled(rule, line):
+    """The line with all bits that are put in behind it, each time with a look at all patterns."""
+    while True:
+        due = [bit for pattern, bit in rule.stuffs if line[-len(pattern):] == pattern]
+        if not due:
+            return line
+        line += due[0]
+
+
+def plain_body(rule, message):
+    """The body of a message, bit by bit."""
+    line = ""
+    for bit in message:
+        line = plain_filled(rule, line + bit)
+    return line
+
+
+def plain_bodies(rule, longest):
+    """The bodies of all messages of so many bits at most, by their messages, the first ones first."""
+    found = {"": ""}
+    for message in words(longest, 1):
+        found[message] = plain_filled(rule, found[message[:-1]] + message[-1])
+    return found
 
 
 class TooLong(BaseException):

@@ -1,10 +1,15 @@
 """[1] and [2]: what holds for everything."""
 
+import math
 import unittest
 
-from tests.helpers import any_values, nested, words
+from tests.helpers import any_values, nested, some_rules, words
 from unseenflips.checks import Check
-from unseenflips.errors import InvalidCheck, InvalidRule, InvalidText
+from unseenflips.clean import clean_paper, clean_paper_holds, flag_at, is_clean, spoiled
+from unseenflips.comparing import alike, could_be, parting
+from unseenflips.costs import all_put, dearest, most_put, rate, rate_paper, rate_paper_holds
+from unseenflips.errors import InvalidCheck, InvalidHits, InvalidRule, InvalidText
+from unseenflips.hits import hit, shifts
 from unseenflips.lines import body, frames, receive, send, taken_out
 from unseenflips.rules import Rule
 
@@ -17,8 +22,21 @@ def told(work, *given):
         return str(work(*given))
     except (InvalidRule, InvalidCheck) as error:
         return error.__class__, error.word
-    except InvalidText as error:
+    except (InvalidText, InvalidHits) as error:
         return error.__class__, error.at
+
+
+def asked_of_nets():
+    """Answers for messages of all lengths, for rules that are made anew."""
+    known = [
+        Rule("01110", [("11", "0")]), Rule("01110", [("11", "0"), ("001", "1")]), Rule("11"), Rule("11", [("1", "0")])]
+    return [
+        (is_clean(rule), spoiled(rule), flag_at(rule, "0110"), clean_paper(rule), clean_paper_holds(rule, ("", "0")),
+         most_put(rule, 9), dearest(rule, 9), all_put(rule, 9), rate(rule), rate_paper(rule, (1, 2)),
+         rate_paper(rule, (7, 2)), rate_paper_holds(rule, (1, 2), (("", (0, 1)),)),
+         [(alike(rule, other), parting(rule, other)) for other in known],
+         could_be(rule.flag, 3, [("11", body(rule, "11"))]), hit("01", [(0, "turn")]), shifts(rule, ["turn", "lose"]))
+        for rule in known]
 
 
 class AnyValues(unittest.TestCase):
@@ -32,6 +50,14 @@ class AnyValues(unittest.TestCase):
         for work in [Rule.read, Check.read]:
             for one in values:
                 told(work, one)
+        for one in values + [[value] for value in values] + [(value, value) for value in values]:
+            self.assertIn(told(clean_paper_holds, ONES, one), ["True", "False"])
+            self.assertIn(told(rate_paper_holds, ONES, (1, 2), one), ["True", "False"])
+            told(hit, "0110", one)
+            for other in values:
+                self.assertIn(told(clean_paper_holds, ONES, ("", one, other)), ["True", "False"])
+                self.assertIn(told(rate_paper_holds, ONES, (1, 2), (("", (0, 1)), (one, other))), ["True", "False"])
+                told(hit, "0110", [(0, "turn"), (one, other)])
 
     def test_eight_deep(self):
         for depth in range(1, 9):
@@ -43,6 +69,9 @@ class AnyValues(unittest.TestCase):
             self.assertEqual(told(Check, "11", deep), (InvalidCheck, "start"))
             self.assertEqual(told(Rule.read, deep), (InvalidText, 0))
             self.assertEqual(told(Check.read, deep), (InvalidText, 0))
+            self.assertEqual(told(clean_paper_holds, ONES, deep), "False")
+            self.assertEqual(told(rate_paper_holds, ONES, (1, 2), deep), "False")
+            self.assertEqual(told(hit, "01", deep), (InvalidHits, 0))
 
     def test_no_integer_or_bool_is_a_bit(self):
         for bit in [0, 1, True, False]:
@@ -57,6 +86,19 @@ class AnyValues(unittest.TestCase):
         for other in any_values():
             self.assertIsInstance(ONES == other, bool)
             self.assertIsInstance(ODD == other, bool)
+        for rule in some_rules(30, 51):
+            for answer in [is_clean(rule), alike(rule, ONES), clean_paper_holds(rule, ()),
+                           clean_paper_holds(rule, None), clean_paper_holds(rule, clean_paper(rule)),
+                           rate_paper_holds(rule, (4, 1), None),
+                           rate_paper_holds(rule, (4, 1), rate_paper(rule, (4, 1)))]:
+                self.assertIs(answer.__class__, bool)
+
+    def test_values(self):
+        for rule in some_rules(60, 52):
+            paper = rate_paper(rule, (31, 7))
+            for value in [rate(rule)] + [height for standing, height in paper]:
+                self.assertEqual([part.__class__ for part in (value,) + value], [tuple, int, int])
+                self.assertEqual((len(value), math.gcd(value[0], value[1]), value[1] > 0), (2, 1, True))
 
 
 class Changes(unittest.TestCase):
@@ -95,11 +137,14 @@ class Changes(unittest.TestCase):
                  check.rest(word), check.bits_for(word), check.is_good(word), str(check), check.degree)
                 for rule in rules for check in checks for word in words(5)]
 
-        first = asked()
+        first, first_of_nets = asked(), asked_of_nets()
+        for rule in some_rules(100, 53):
+            spoiled(rule), clean_paper(rule), rate(rule), dearest(rule, 20), shifts(rule, ["turn"]), parting(rule, ONES)
+        self.assertEqual(asked_of_nets(), first_of_nets)
         for value in any_values():
             for work in [Rule, Check, Rule.read, Check.read]:
                 told(work, value)
-        self.assertEqual(asked(), first)
+        self.assertEqual((asked(), asked_of_nets()), (first, first_of_nets))
         self.assertEqual([rule.stuffs for rule in rules], [(("11", "0"),), (("001", "1"), ("11", "0")), ()])
 
     def test_sequences_are_tuples(self):
@@ -109,6 +154,34 @@ class Changes(unittest.TestCase):
         pairs = frames(ONES, Check(), "101110001110")
         self.assertEqual([part.__class__ for part in (pairs,) + pairs], [tuple] * 3)
         self.assertIs(receive(ONES, Check(), "").__class__, tuple)
+        paper = rate_paper(ONES, (1, 2))
+        for result in (clean_paper(ONES), paper, could_be("01110", 2, []), shifts(ONES, ["turn"]), shifts(ONES, []),
+                       could_be("01110", 0, []), rate(ONES)) + paper:
+            self.assertIs(result.__class__, tuple)
+
+    def test_sequences_may_be_lists_or_tuples(self):
+        pairs, hits, kinds = [("11", "110"), ("1", "1")], [(0, "double"), (2, "lose")], ["turn", "lose"]
+        before = list(pairs), list(hits), list(kinds)
+        self.assertEqual(could_be("01110", 3, pairs), could_be("01110", 3, tuple(pairs)))
+        self.assertEqual(hit("0110", hits), hit("0110", tuple(hits)))
+        self.assertEqual(shifts(ONES, kinds), shifts(ONES, tuple(kinds)))
+        self.assertEqual((pairs, hits, kinds), before)
+
+    def test_papers_are_tuples(self):
+        clean, dear = clean_paper(ONES), rate_paper(ONES, (1, 2))
+        self.assertEqual((clean_paper_holds(ONES, clean), rate_paper_holds(ONES, (1, 2), dear)), (True, True))
+        self.assertIs(clean_paper_holds(ONES, list(clean)), False)
+        self.assertIs(rate_paper_holds(ONES, (1, 2), list(dear)), False)
+        self.assertIs(rate_paper_holds(ONES, (1, 2), tuple(list(entry) for entry in dear)), False)
+
+    def test_rules_stay(self):
+        rule = Rule("01110", [("11", "0"), ("001", "1")])
+        before = vars(rule).copy()
+        for work in [is_clean, spoiled, clean_paper, rate]:
+            work(rule)
+        clean_paper_holds(rule, ("",)), most_put(rule, 5), all_put(rule, 5), rate_paper(rule, (3, 1))
+        parting(rule, ONES), parting(ONES, rule), shifts(rule, ["turn"])
+        self.assertEqual(vars(rule), before)
 
 
 class Objects(unittest.TestCase):
@@ -149,6 +222,17 @@ class Names(unittest.TestCase):
         self.assertEqual(send(data="1", check=ODD, rule=ONES), "11001110")
         self.assertEqual(receive(raw="11001110", check=ODD, rule=ONES), ("good", "1"))
         self.assertEqual(frames(raw="11001110", check=ODD, rule=ONES), (("good", "1"),))
+
+    def test_arguments_of_nets_by_name(self):
+        least = Rule("11", [("1", "0")])
+        self.assertEqual((is_clean(rule=ONES), spoiled(rule=ONES), flag_at(message="11", rule=ONES)), (True, None, 3))
+        self.assertTrue(clean_paper_holds(value=clean_paper(rule=least), rule=least))
+        self.assertEqual((most_put(size=5, rule=ONES), dearest(size=5, rule=ONES)), (2, "01111"))
+        self.assertEqual((all_put(size=2, rule=ONES), rate(rule=ONES)), (1, (1, 2)))
+        self.assertTrue(rate_paper_holds(paper=rate_paper(value=(1, 2), rule=ONES), value=(1, 2), rule=ONES))
+        self.assertEqual((alike(q=ONES, p=ONES), parting(q=ONES, p=least)), (True, "1"))
+        self.assertEqual(could_be(pairs=[("11", "110")], size=2, flag="01110"), ("flag 01110 put 11:0",))
+        self.assertEqual((hit(hits=[(0, "lose")], line="01"), shifts(kinds=["turn"], rule=Rule("01110"))), ("1", (0,)))
 
 
 if __name__ == "__main__":

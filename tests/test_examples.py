@@ -3,11 +3,13 @@
 Overview:
 
     >>> from unseenflips.checks import Check
+    >>> from unseenflips.clean import is_clean
+    >>> from unseenflips.costs import rate
     >>> from unseenflips.lines import receive, send
     >>> from unseenflips.rules import Rule
     >>> ones, odd = Rule("01110", [("11", "0")]), Check("11")
-    >>> send(ones, Check(), "1111"), receive(ones, Check(), "11011001110")
-    ('11011001110', ('good', '1111'))
+    >>> is_clean(ones), rate(ones), send(ones, Check(), "1111"), receive(ones, Check(), "11011001110")
+    (True, (1, 2), '11011001110', ('good', '1111'))
 
 Rules:
 
@@ -27,6 +29,33 @@ Lines:
     ('01100', '0110', None, ('good', '0'))
     >>> frames(ones, Check(), "1011100111001"), receive(ones, Check(), "11101110"), receive(ones, odd, "1001110")
     ((('good', '1'),), ('put', None), ('check', None))
+
+Clean rules:
+
+    >>> from unseenflips.clean import clean_paper, clean_paper_holds, flag_at, spoiled
+    >>> zeros = Rule("0010", [("001", "1")])
+    >>> is_clean(zeros), spoiled(Rule("01110", [("111", "0")])), spoiled(Rule("11")), flag_at(Rule("11"), "010")
+    (True, '0111', '1', 3)
+
+Costs:
+
+    >>> from unseenflips.costs import all_put, dearest, most_put, rate_paper, rate_paper_holds
+    >>> most_put(ones, 5), dearest(ones, 5), all_put(ones, 2), rate(zeros), rate_paper(ones, (2, 5))
+    (2, '01111', 1, (1, 3), None)
+    >>> rate_paper_holds(ones, (1, 2), rate_paper(ones, (1, 2))), rate_paper_holds(ones, (1, 2), ())
+    (True, False)
+
+Rules compared:
+
+    >>> from unseenflips.comparing import alike, could_be, parting
+    >>> alike(ones, Rule("11", [("11", "0")])), parting(ones, zeros), could_be("01110", 2, [("11", "110")])
+    (True, '11', ('flag 01110 put 11:0',))
+
+Hits:
+
+    >>> from unseenflips.hits import hit, shifts
+    >>> hit("0110", [(0, "double"), (2, "lose"), (3, "turn")]), shifts(ones, ["turn"]), shifts(Rule("01110"), ["lose"])
+    ('0011', (-1, 0, 1), (-1,))
 """
 
 import doctest
@@ -44,7 +73,7 @@ class Examples(unittest.TestCase):
         test = doctest.DocTestParser().get_doctest(__doc__, {}, "examples", __file__, 0)
         told = []
         result = doctest.DocTestRunner(verbose=False).run(test, out=told.append)
-        self.assertEqual((result.failed, result.attempted), (0, 11), "".join(told))
+        self.assertEqual((result.failed, result.attempted), (0, 23), "".join(told))
 
     def test_readme(self):
         result = doctest.testfile(README, module_relative=False)

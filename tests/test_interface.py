@@ -14,6 +14,12 @@ PACKAGE = os.path.join(os.path.dirname(os.path.dirname(os.path.abspath(__file__)
 FUNCTIONS = {
     "lines": {"body": "(rule, message)", "taken_out": "(rule, line)", "send": "(rule, check, data)",
               "receive": "(rule, check, raw)", "frames": "(rule, check, raw)"},
+    "clean": {"is_clean": "(rule)", "spoiled": "(rule)", "flag_at": "(rule, message)", "clean_paper": "(rule)",
+              "clean_paper_holds": "(rule, value)"},
+    "costs": {"most_put": "(rule, size)", "dearest": "(rule, size)", "all_put": "(rule, size)", "rate": "(rule)",
+              "rate_paper": "(rule, value)", "rate_paper_holds": "(rule, value, paper)"},
+    "comparing": {"alike": "(p, q)", "parting": "(p, q)", "could_be": "(flag, size, pairs)"},
+    "hits": {"hit": "(line, hits)", "shifts": "(rule, kinds)"},
 }
 CLASSES = {
     ("rules", "Rule"): {

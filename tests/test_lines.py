@@ -2,7 +2,7 @@
 
 import unittest
 
-from tests.helpers import rules, words
+from tests.helpers import plain_body, rules, words
 from unseenflips.checks import Check
 from unseenflips.lines import body, frames, receive, send, taken_out
 from unseenflips.rules import Rule
@@ -66,19 +66,6 @@ class Bodies(unittest.TestCase):
         for line, message in [("11", None), ("111", None), ("1101", "111"), ("110", "11"), ("01100", "0110"),
                               ("011", None), ("0111", None), ("10110", "1011"), ("101101", "10111"), ("1011011", None)]:
             self.assertEqual(taken_out(ONES, line), message, line)
-
-
-def plain_body(rule, message):
-    """The body, each time with a look at all patterns."""
-    table, line = dict(rule.stuffs), []
-    for bit in message:
-        line.append(bit)
-        while True:
-            due = [table[pattern] for pattern in table if "".join(line).endswith(pattern)]
-            if not due:
-                break
-            line += due
-    return "".join(line)
 
 
 class Sent(unittest.TestCase):

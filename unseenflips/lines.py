@@ -1,15 +1,20 @@
 """Lines: how messages are sent, and how lines are read."""
 
 
+def filled(rule, line):
+    """The line followed by all bits that are put in behind it."""
+    due = rule.put(line)
+    while due is not None:
+        line += due
+        due = rule.put(line)
+    return line
+
+
 def body(rule, message):
     """The line for a message: its bits, with all bits that are put in."""
     line = ""
     for bit in message:
-        line += bit
-        due = rule.put(line)
-        while due is not None:
-            line += due
-            due = rule.put(line)
+        line = filled(rule, line + bit)
     return line
 
 
@@ -27,6 +32,11 @@ def taken_out(rule, line):
     if rule.put(ahead) is not None:
         return None
     return message
+
+
+def is_kept(rule, line):
+    """Whether a line, followed by the flag, has its first flag at the end."""
+    return (line + rule.flag).find(rule.flag) == len(line)
 
 
 def send(rule, check, data):

@@ -1,7 +1,7 @@
 """Rules: a flag, and the bits that are put in behind patterns."""
 
 from unseenflips.errors import InvalidRule, InvalidText
-from unseenflips.words import is_bit, is_word, other_bits
+from unseenflips.words import is_bit, is_word, other_bits, words_up_to
 
 
 def is_stuff(value):
@@ -120,3 +120,16 @@ class Rule:
             return f"flag {self.flag}"
         puts = " ".join([f"{pattern}:{bit}" for pattern, bit in self.stuffs])
         return f"flag {self.flag} put {puts}"
+
+
+def rules_of_one(flag, size):
+    """All rules with this flag and one stuff, with a pattern of 1 to so many bits."""
+    found = []
+    for pattern in words_up_to(size):
+        for bit in "01":
+            try:
+                found.append(Rule(flag, [(pattern, bit)]))
+            except InvalidRule:
+                # Bits would be put in without end, so there is no such rule.
+                pass
+    return found

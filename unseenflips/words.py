@@ -14,3 +14,18 @@ def is_bit(value):
 def other_bits(word):
     """The word with 0 and 1 exchanged."""
     return "".join(["1" if bit == "0" else "0" for bit in word])
+
+
+def last_bits(word, many):
+    """The last so many bits of a word, or all of them if it has fewer."""
+    return word[max(0, len(word) - many):]
+
+
+def words_up_to(longest):
+    """All words of 1 to so many bits, the first ones first."""
+    found = []
+    level = [""]
+    for _ in range(longest):
+        level = [word + bit for word in level for bit in "01"]
+        found += level
+    return found
