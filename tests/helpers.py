@@ -9,6 +9,9 @@ from unseenflips.checks import Check
 from unseenflips.errors import InvalidRule, InvalidWord
 from unseenflips.rules import Rule
 
+KINDS = ["double", "lose", "turn"]
+HOWS = ["same", "shift", "cut", "any"]
+
 
 def nested(value, depth):
     """The value in lists and tuples, so deep."""
@@ -46,22 +49,22 @@ def rules(flag, stuffs, longest):
                 pass
 
 
-def some_rules(many, seed):
-    """So many rules of all sorts: flags of 2 to 6 bits, up to two stuffs, patterns of 1 to 4 bits."""
+def some_rules(many, seed, flag_bits=6, pattern_bits=4):
+    """So many rules of all sorts, with up to two stuffs, and flags and patterns of so many bits at most."""
     chance = random.Random(seed)
     made = 0
     while made < many:
-        flag = "".join(chance.choice("01") for _ in range(chance.randint(2, 6)))
+        flag = "".join(chance.choice("01") for _ in range(chance.randint(2, flag_bits)))
         try:
-            yield Rule(flag, [some_stuff(chance, flag) for _ in range(chance.randint(0, 2))])
+            yield Rule(flag, [some_stuff(chance, flag, pattern_bits) for _ in range(chance.randint(0, 2))])
             made += 1
         except InvalidRule:
             pass
 
 
-def some_stuff(chance, flag):
+def some_stuff(chance, flag, pattern_bits):
     """A stuff; every other one breaks the flag somewhere, so that some of the rules are clean."""
-    size = chance.randint(1, 4)
+    size = chance.randint(1, pattern_bits)
     if size < len(flag) and chance.random() < 0.5:
         at = chance.randrange(len(flag) - size)
         return flag[at:at + size], {"0": "1", "1": "0"}[flag[at + size]]
@@ -91,6 +94,69 @@ def plain_bodies(rule, longest):
     for message in words(longest, 1):
         found[message] = plain_filled(rule, found[message[:-1]] + message[-1])
     return found
+
+
+def plain_read(rule, line):
+    """The message with this body, or None: as long as it fits, the next bit of the line is one of the message."""
+    message = ahead = ""
+    while len(ahead) < len(line):
+        message += line[len(ahead)]
+        ahead = plain_filled(rule, ahead + message[-1])
+        if line[:len(ahead)] != ahead:
+            return None
+    return message
+
+
+def plain_hit(line, hits):
+    """The line with these hits, the last one first, each one cut and put in."""
+    for at, kind in sorted(hits, reverse=True):
+        other = {"double": line[at] * 2, "lose": "", "turn": {"0": "1", "1": "0"}[line[at]]}[kind]
+        line = line[:at] + other + line[at + 1:]
+    return line
+
+
+def all_hits(bits, kinds, many):
+    """All ascending tuples of so many hits of these kinds on a line of so many bits."""
+    for places in itertools.combinations(range(bits), many):
+        for chosen in itertools.product(kinds, repeat=many):
+            yield tuple(zip(places, chosen))
+
+
+def plain_way(rule, check, data, line, hits):
+    """How these hits on the line for the data are unseen, in the words of the promise, or None."""
+    arrived = plain_hit(line, hits)
+    part = arrived[:(arrived + rule.flag).index(rule.flag)]
+    message = plain_read(rule, part)
+    if message is None or not check.is_good(message):
+        return None
+    other = message[:len(message) - check.degree]
+    if other == data:
+        return None
+    if part != arrived:
+        return "cut"
+    return "same" if len(other) == len(data) else "shift"
+
+
+def plain_unseen(rule, check, kinds, size, many):
+    """For each way the number of all pairs of data of this size and so many hits that are unseen, by trying them."""
+    found = dict.fromkeys(HOWS, 0)
+    for data in words(size, size):
+        line = plain_body(rule, data + check.bits_for(data))
+        for hits in all_hits(len(line), kinds, many):
+            way = plain_way(rule, check, data, line, hits)
+            if way is not None:
+                found[way] += 1
+                found["any"] += 1
+    return found
+
+
+def some_check(chance, degree=2):
+    """Some check of a degree of so much at most."""
+    degree = chance.randint(0, degree)
+    if degree == 0:
+        return Check()
+    middle, start = ("".join(chance.choice("01") for _ in range(size)) for size in (degree - 1, degree))
+    return Check("1" + middle + "1", start)
 
 
 class TooLong(BaseException):

@@ -4,14 +4,18 @@ import math
 import unittest
 
 from tests.helpers import any_values, nested, some_rules, words
+from unseenflips.best import best_checks, cheapest, clean_rules
 from unseenflips.checks import Check
 from unseenflips.clean import clean_paper, clean_paper_holds, flag_at, is_clean, spoiled
 from unseenflips.comparing import alike, could_be, parting
 from unseenflips.costs import all_put, dearest, most_put, rate, rate_paper, rate_paper_holds
-from unseenflips.errors import InvalidCheck, InvalidHits, InvalidRule, InvalidText
+from unseenflips.desk import Desk
+from unseenflips.errors import InvalidCheck, InvalidCommand, InvalidHits, InvalidRule, InvalidText, InvalidWord, Refused
 from unseenflips.hits import hit, shifts
 from unseenflips.lines import body, frames, receive, send, taken_out
+from unseenflips.live import Live
 from unseenflips.rules import Rule
+from unseenflips.unseen import count_unseen, example, first_unseen, unseen_sizes
 
 ONES, ODD = Rule("01110", [("11", "0")]), Check("11")
 
@@ -22,8 +26,10 @@ def told(work, *given):
         return str(work(*given))
     except (InvalidRule, InvalidCheck) as error:
         return error.__class__, error.word
-    except (InvalidText, InvalidHits) as error:
+    except (InvalidText, InvalidHits, Refused) as error:
         return error.__class__, error.at
+    except (InvalidWord, InvalidCommand) as error:
+        return error.__class__, None
 
 
 def asked_of_nets():
@@ -35,8 +41,19 @@ def asked_of_nets():
          most_put(rule, 9), dearest(rule, 9), all_put(rule, 9), rate(rule), rate_paper(rule, (1, 2)),
          rate_paper(rule, (7, 2)), rate_paper_holds(rule, (1, 2), (("", (0, 1)),)),
          [(alike(rule, other), parting(rule, other)) for other in known],
-         could_be(rule.flag, 3, [("11", body(rule, "11"))]), hit("01", [(0, "turn")]), shifts(rule, ["turn", "lose"]))
+         could_be(rule.flag, 3, [("11", body(rule, "11"))]), hit("01", [(0, "turn")]), shifts(rule, ["turn", "lose"]),
+         asked_of_hits(rule), clean_rules(rule.flag, 3), cheapest(rule.flag, 3))
         for rule in known]
+
+
+def asked_of_hits(rule):
+    """Answers about unseen hits."""
+    return [
+        (first_unseen(rule, check, kinds, 1, how), example(rule, check, kinds, 1, how),
+         count_unseen(rule, check, kinds, 3, 1, how), unseen_sizes(rule, check, kinds, 1, how, 4),
+         best_checks(rule, check.degree, kinds, 1, how))
+        for check in [Check(), Check("11", "1")] for kinds in [["turn"], ["lose", "double"]]
+        for how in ["same", "shift", "cut", "any"]]
 
 
 class AnyValues(unittest.TestCase):
@@ -54,10 +71,22 @@ class AnyValues(unittest.TestCase):
             self.assertIn(told(clean_paper_holds, ONES, one), ["True", "False"])
             self.assertIn(told(rate_paper_holds, ONES, (1, 2), one), ["True", "False"])
             told(hit, "0110", one)
+            live = Live(ONES, ODD)
+            is_sequence = isinstance(one, (list, tuple))
+            self.assertIn(told(live.hear, one), ["()", (InvalidWord, None)])
+            self.assertIs(told(live.several, one).__class__, tuple if not is_sequence or not all(
+                isinstance(bits, str) and set(bits) <= set("01") for bits in one) else str)
+            for desk in [Desk(), self.desk()]:
+                told(desk.say, one)
             for other in values:
                 self.assertIn(told(clean_paper_holds, ONES, ("", one, other)), ["True", "False"])
                 self.assertIn(told(rate_paper_holds, ONES, (1, 2), (("", (0, 1)), (one, other))), ["True", "False"])
                 told(hit, "0110", [(0, "turn"), (one, other)])
+
+    def desk(self):
+        desk = Desk()
+        desk.say("rule " + str(ONES))
+        return desk
 
     def test_eight_deep(self):
         for depth in range(1, 9):
@@ -72,6 +101,10 @@ class AnyValues(unittest.TestCase):
             self.assertEqual(told(clean_paper_holds, ONES, deep), "False")
             self.assertEqual(told(rate_paper_holds, ONES, (1, 2), deep), "False")
             self.assertEqual(told(hit, "01", deep), (InvalidHits, 0))
+            self.assertEqual(told(Live(ONES, ODD).hear, deep), (InvalidWord, None))
+            self.assertEqual(told(Live(ONES, ODD).several, nested("2", depth)), (Refused, 0))
+            self.assertEqual(told(Live(ONES, ODD).several, ["0", deep]), (Refused, 1))
+            self.assertEqual(told(self.desk().say, nested("undo", depth)), (InvalidCommand, None))
 
     def test_no_integer_or_bool_is_a_bit(self):
         for bit in [0, 1, True, False]:
@@ -140,6 +173,7 @@ class Changes(unittest.TestCase):
         first, first_of_nets = asked(), asked_of_nets()
         for rule in some_rules(100, 53):
             spoiled(rule), clean_paper(rule), rate(rule), dearest(rule, 20), shifts(rule, ["turn"]), parting(rule, ONES)
+            first_unseen(rule, ODD, ["turn"], 1, "any"), Live(rule, ODD).hear("0" + rule.flag * 3)
         self.assertEqual(asked_of_nets(), first_of_nets)
         for value in any_values():
             for work in [Rule, Check, Rule.read, Check.read]:
@@ -159,12 +193,29 @@ class Changes(unittest.TestCase):
                        could_be("01110", 0, []), rate(ONES)) + paper:
             self.assertIs(result.__class__, tuple)
 
+    def test_sequences_of_later_modules_are_tuples(self):
+        told = example(ONES, Check(), ["turn"], 1, "same")
+        self.assertEqual([part.__class__ for part in (told, *told, *told[1])], [tuple, str, tuple, tuple])
+        self.assertIs(example(Rule("11"), Check(), [], 0, "cut")[1].__class__, tuple)
+        live = Live(Rule("11"), Check())
+        for result in [unseen_sizes(ONES, ODD, ["turn"], 1, how, 5) for how in ["same", "cut"]] + [
+                clean_rules("01110", 3), clean_rules("01", 3), cheapest("01110", 3), cheapest("01", 3),
+                best_checks(ONES, 2, ["turn"], 1, "same"), best_checks(ONES, 0, ["turn"], 1, "cut"),
+                live.found, live.hear("11"), live.hear("011"), live.found, live.found[0], live.several([]),
+                live.several(["0"]), live.several(["011"])[0], live.several(["011"])[0][0]]:
+            self.assertIs(result.__class__, tuple)
+
     def test_sequences_may_be_lists_or_tuples(self):
         pairs, hits, kinds = [("11", "110"), ("1", "1")], [(0, "double"), (2, "lose")], ["turn", "lose"]
         before = list(pairs), list(hits), list(kinds)
         self.assertEqual(could_be("01110", 3, pairs), could_be("01110", 3, tuple(pairs)))
         self.assertEqual(hit("0110", hits), hit("0110", tuple(hits)))
         self.assertEqual(shifts(ONES, kinds), shifts(ONES, tuple(kinds)))
+        for how in ["same", "shift", "cut", "any"]:
+            for work, behind in [(first_unseen, (2, how)), (example, (1, how)), (count_unseen, (3, 2, how)),
+                                 (unseen_sizes, (2, how, 4))]:
+                self.assertEqual(work(ONES, ODD, kinds, *behind), work(ONES, ODD, tuple(kinds), *behind))
+            self.assertEqual(best_checks(ONES, 2, kinds, 1, how), best_checks(ONES, 2, tuple(kinds), 1, how))
         self.assertEqual((pairs, hits, kinds), before)
 
     def test_papers_are_tuples(self):
@@ -181,7 +232,17 @@ class Changes(unittest.TestCase):
             work(rule)
         clean_paper_holds(rule, ("",)), most_put(rule, 5), all_put(rule, 5), rate_paper(rule, (3, 1))
         parting(rule, ONES), parting(ONES, rule), shifts(rule, ["turn"])
+        check = Check("111", "01")
+        for how in ["same", "shift", "cut", "any"]:
+            first_unseen(rule, check, ["turn"], 1, how), example(rule, check, ["turn"], 1, how)
+            count_unseen(rule, check, ["turn"], 3, 1, how), unseen_sizes(rule, check, ["turn"], 1, how, 3)
+            best_checks(rule, 2, ["turn"], 1, how)
+        live = Live(rule, check)
+        live.several(["011", "1001110"])
+        live.change(ONES)
+        live.undo()
         self.assertEqual(vars(rule), before)
+        self.assertEqual(vars(check), {"poly": "111", "start": "01"})
 
 
 class Objects(unittest.TestCase):
@@ -201,7 +262,7 @@ class Objects(unittest.TestCase):
         self.assertFalse(Check("11") == Rule("11"))
 
     def test_not_iterable(self):
-        for value in [ONES, Rule("11"), ODD, Check()]:
+        for value in [ONES, Rule("11"), ODD, Check(), Live(ONES, ODD), Desk()]:
             self.assertRaises(TypeError, iter, value)
             self.assertRaises(TypeError, list, value)
             with self.assertRaises(TypeError):
@@ -233,6 +294,21 @@ class Names(unittest.TestCase):
         self.assertEqual((alike(q=ONES, p=ONES), parting(q=ONES, p=least)), (True, "1"))
         self.assertEqual(could_be(pairs=[("11", "110")], size=2, flag="01110"), ("flag 01110 put 11:0",))
         self.assertEqual((hit(hits=[(0, "lose")], line="01"), shifts(kinds=["turn"], rule=Rule("01110"))), ("1", (0,)))
+
+    def test_arguments_of_unseen_and_best_by_name(self):
+        given = {"how": "same", "hits": 1, "kinds": ["turn"], "check": Check(), "rule": ONES}
+        self.assertEqual((first_unseen(**given), count_unseen(size=1, **given)), (1, 2))
+        self.assertEqual((len(example(**given)[0]), unseen_sizes(most=2, **given)), (1, (1, 2)))
+        self.assertEqual(clean_rules(size=1, flag="11"), ("flag 11 put 1:0",))
+        self.assertEqual(cheapest(size=1, flag="11"), ("flag 11 put 1:0",))
+        self.assertEqual(best_checks(how="same", hits=1, kinds=["turn"], degree=1, rule=ONES), ("11",))
+
+    def test_arguments_of_live_and_desk_by_name(self):
+        live = Live(check=ODD, rule=ONES)
+        self.assertEqual((live.hear(bits="01110"), live.several(words=["0", "01110"])), ((), ((), (("good", ""),))))
+        self.assertIsNone(live.change(rule=Rule("11")))
+        self.assertEqual(live.within(work=len), 3)
+        self.assertEqual(Desk().say(command="rule flag 11"), "spoiled")
 
 
 if __name__ == "__main__":

@@ -7,9 +7,14 @@ Overview:
     >>> from unseenflips.costs import rate
     >>> from unseenflips.lines import receive, send
     >>> from unseenflips.rules import Rule
+    >>> from unseenflips.unseen import first_unseen
     >>> ones, odd = Rule("01110", [("11", "0")]), Check("11")
     >>> is_clean(ones), rate(ones), send(ones, Check(), "1111"), receive(ones, Check(), "11011001110")
     (True, (1, 2), '11011001110', ('good', '1111'))
+    >>> [first_unseen(ones, Check(), ["turn"], 1, how) for how in ("same", "shift", "cut")]
+    [1, 2, 3]
+    >>> [first_unseen(ones, odd, ["turn"], 1, how) for how in ("same", "shift", "cut")]
+    [None, None, 3]
 
 Rules:
 
@@ -56,6 +61,34 @@ Hits:
     >>> from unseenflips.hits import hit, shifts
     >>> hit("0110", [(0, "double"), (2, "lose"), (3, "turn")]), shifts(ones, ["turn"]), shifts(Rule("01110"), ["lose"])
     ('0011', (-1, 0, 1), (-1,))
+
+Unseen hits:
+
+    >>> from unseenflips.unseen import count_unseen, example, unseen_sizes
+    >>> first_unseen(ones, odd, ["turn"], 2, "same"), example(ones, odd, ["turn"], 1, "same"), first_unseen(Rule("11"), Check(), [], 0, "cut")
+    (2, None, 1)
+    >>> count_unseen(ones, Check(), ["turn"], 1, 1, "same"), count_unseen(ones, odd, ["turn"], 2, 1, "any"), unseen_sizes(ones, Check(), ["lose"], 1, "shift", 2)
+    (2, 0, (1, 2))
+
+Best rules and checks:
+
+    >>> from unseenflips.best import cheapest, clean_rules
+    >>> "flag 01110 put 11:0" in clean_rules("01110", 2), clean_rules("11", 1), cheapest("11", 1)
+    (True, ('flag 11 put 1:0',), ('flag 11 put 1:0',))
+
+Live receivers:
+
+    >>> from unseenflips.live import Live
+    >>> live = Live(ones, odd)
+    >>> live.hear("00111"), live.hear("0000111"), live.hear("011001110"), live.part, live.is_open, len(live)
+    ((), (), (('good', '0'), ('good', '1')), '', True, 3)
+
+Desks:
+
+    >>> from unseenflips.desk import Desk
+    >>> desk = Desk()
+    >>> desk.say("rule " + str(ones)), desk.say("send 11"), desk.say("check 11 start 0"), desk.say("turns cut"), desk.say("hear 011100001110"), desk.say("undo")
+    ('clean', '11001110', '1', '3', 'good 0', 'undone')
 """
 
 import doctest
@@ -73,7 +106,7 @@ class Examples(unittest.TestCase):
         test = doctest.DocTestParser().get_doctest(__doc__, {}, "examples", __file__, 0)
         told = []
         result = doctest.DocTestRunner(verbose=False).run(test, out=told.append)
-        self.assertEqual((result.failed, result.attempted), (0, 23), "".join(told))
+        self.assertEqual((result.failed, result.attempted), (0, 37), "".join(told))
 
     def test_readme(self):
         result = doctest.testfile(README, module_relative=False)

@@ -61,7 +61,52 @@ class Form(unittest.TestCase):
     def defined(self, module):
         package, file = module.split(".")
         self.assertEqual(package, "unseenflips")
-        return [node.name for node in dict(trees())[file + ".py"].body if hasattr(node, "name")]
+        found = []
+        for node in dict(trees())[file + ".py"].body:
+            if isinstance(node, ast.Assign):
+                found += [target.id for target in node.targets]
+            elif hasattr(node, "name"):
+                found.append(node.name)
+        return found
+
+    def test_names_of_imports_mean_nothing_else(self):
+        for name, tree in trees():
+            imported = {alias.name for node in tree.body if isinstance(node, ast.ImportFrom) for alias in node.names}
+            for node in ast.walk(tree):
+                if isinstance(node, ast.Name) and isinstance(node.ctx, ast.Store):
+                    self.assertNotIn(node.id, imported, name)
+                if isinstance(node, ast.arg):
+                    self.assertNotIn(node.arg, imported, name)
+
+    def test_properties_have_names_of_their_own(self):
+        properties, others = set(), set()
+        for name, tree in trees():
+            for node in ast.walk(tree):
+                if isinstance(node, ast.FunctionDef):
+                    decorators = [getattr(part, "id", None) for part in node.decorator_list]
+                    (properties if "property" in decorators else others).add(node.name)
+                if isinstance(node, ast.Attribute) and isinstance(node.ctx, ast.Store):
+                    others.add(node.attr)
+        self.assertEqual(properties & others, set())
+        self.assertLessEqual({"longest", "degree", "heard", "found"}, properties)
+
+    def test_one_lambda_on_a_line(self):
+        for name, tree in trees():
+            lines = [node.lineno for node in ast.walk(tree) if isinstance(node, ast.Lambda)]
+            self.assertEqual(len(lines), len(set(lines)), name)
+
+    def test_no_generator_expressions(self):
+        # Where a class has a length or can be equal, only lists are passed on, so lists stand everywhere.
+        for name, tree in trees():
+            for node in ast.walk(tree):
+                self.assertNotIsInstance(node, ast.GeneratorExp, name)
+
+    def test_only_own_errors_are_caught(self):
+        own = self.defined("unseenflips.errors")
+        for name, tree in trees():
+            for node in ast.walk(tree):
+                if isinstance(node, ast.ExceptHandler):
+                    self.assertIn(node.type.id, own, name)
 
     def test_barred_words(self):
         for name, tree in trees():

@@ -3,7 +3,7 @@
 import itertools
 import unittest
 
-from tests.helpers import any_values, in_good_time, nested, plain_bodies, plain_body, rules, some_rules, words
+from tests.helpers import KINDS, any_values, in_good_time, nested, plain_bodies, plain_hit, rules, some_rules, words
 from unseenflips.errors import FlipError, InvalidHits
 from unseenflips.hits import hit, shifts
 from unseenflips.lines import taken_out
@@ -17,13 +17,6 @@ ZEROS = Rule("0010", [("001", "1")])
 CHAIN = Rule("01110", [("11", "0"), ("110", "1"), ("101", "0")])
 # One lost bit can make three bits of a message be taken out.
 FAR = Rule("0010", [("1011", "0"), ("1100", "1")])
-KINDS = ["double", "lose", "turn"]
-
-
-def plain_hit(line, at, kind):
-    """The line with one hit, cut and put together again."""
-    other = {"double": line[at] * 2, "lose": "", "turn": {"0": "1", "1": "0"}[line[at]]}[kind]
-    return line[:at] + other + line[at + 1:]
 
 
 def plain_shifts(rule, kind, longest):
@@ -31,7 +24,7 @@ def plain_shifts(rule, kind, longest):
     found = set()
     for message, line in plain_bodies(rule, longest).items():
         for at in range(len(line)):
-            part = plain_hit(line, at, kind)
+            part = plain_hit(line, [(at, kind)])
             if (part + rule.flag).index(rule.flag) == len(part) and taken_out(rule, part) is not None:
                 found.add(len(taken_out(rule, part)) - len(message))
     return found
@@ -61,8 +54,8 @@ class Hits(unittest.TestCase):
         for line in words(5, 2):
             for one, other in itertools.combinations(range(len(line)), 2):
                 for kind, another in itertools.product(KINDS, repeat=2):
-                    expected = plain_hit(plain_hit(line, other, another), one, kind)
-                    self.assertEqual(hit(line, [(one, kind), (other, another)]), expected)
+                    hits = [(one, kind), (other, another)]
+                    self.assertEqual(hit(line, hits), plain_hit(line, hits))
 
     def test_lists_and_tuples(self):
         hits = [(0, "double"), (2, "lose")]

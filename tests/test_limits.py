@@ -4,15 +4,19 @@ import itertools
 import random
 import unittest
 
-from tests.helpers import in_good_time, plain_body, some_rules, words
+from tests.helpers import HOWS, KINDS, in_good_time, plain_body, plain_way, some_rules, words
+from unseenflips.best import best_checks, cheapest, clean_rules
 from unseenflips.checks import Check
 from unseenflips.clean import clean_paper, clean_paper_holds, flag_at, is_clean, spoiled
 from unseenflips.comparing import alike, could_be, parting
 from unseenflips.costs import all_put, dearest, most_put, rate, rate_paper, rate_paper_holds
-from unseenflips.errors import InvalidRule
+from unseenflips.desk import Desk
+from unseenflips.errors import InvalidRule, Refused
 from unseenflips.hits import hit, shifts
 from unseenflips.lines import body, frames, receive, send, taken_out
+from unseenflips.live import Live
 from unseenflips.rules import Rule
+from unseenflips.unseen import count_unseen, example, first_unseen, unseen_sizes
 
 SECONDS = 20
 CHANCE = random.Random(12)
@@ -22,13 +26,13 @@ def any_word(size):
     return "".join(CHANCE.choice("01") for _ in range(size))
 
 
-def large_rules(many):
-    """So many rules with flags of 6 bits and two patterns of 4 bits, some of them clean."""
+def large_rules(many, flag_bits=6, pattern_bits=4):
+    """So many rules with flags of so many bits and two patterns of so many bits, some of them clean."""
     while many > 0:
-        flag = any_word(6)
-        other = {"0": "1", "1": "0"}[flag[4]]
+        flag = any_word(flag_bits)
+        other = {"0": "1", "1": "0"}[flag[pattern_bits]]
         try:
-            yield Rule(flag, [(flag[:4], other), (any_word(4), any_word(1))])
+            yield Rule(flag, [(flag[:pattern_bits], other), (any_word(pattern_bits), any_word(1))])
             many -= 1
         except InvalidRule:
             pass
@@ -213,6 +217,134 @@ class Limits(unittest.TestCase):
                 self.assertEqual(len(dearest(rule, 1000)), 1000)
             for rule in some_rules(10, 61):
                 self.assertEqual(len(dearest(rule, 600)), 600)
+
+
+class LimitsOfUnseen(unittest.TestCase):
+    """Flags of 5 bits, two patterns of 3 bits, checks of degree 2, and 2 hits."""
+
+    def asked(self, many):
+        for rule in [Rule("01110"), Rule("00000", [("000", "1")]), *large_rules(many, 5, 3)]:
+            for poly in ["101", "111"]:
+                yield rule, Check(poly, any_word(2))
+
+    def test_first_ones(self):
+        for rule, check in self.asked(6):
+            for kinds in [KINDS, ["turn"], ["lose", "double"]]:
+                for how in HOWS:
+                    with in_good_time(SECONDS):
+                        first = first_unseen(rule, check, kinds, 2, how)
+                        told = example(rule, check, kinds, 2, how)
+                    self.assertEqual(first, None if told is None else len(told[0]))
+                    if told is not None:
+                        line = plain_body(rule, told[0] + check.bits_for(told[0]))
+                        way = plain_way(rule, check, told[0], line, told[1])
+                        self.assertIn(how, [way, "any"])
+                        self.assertIsNotNone(way)
+
+    def test_counts_and_sizes(self):
+        for rule, check in self.asked(4):
+            for kinds in [KINDS, ["turn"]]:
+                for how in HOWS:
+                    with in_good_time(SECONDS):
+                        many = count_unseen(rule, check, kinds, 5, 2, how)
+                        sizes = unseen_sizes(rule, check, kinds, 2, how, 8)
+                    self.assertTrue(many == 0 or 5 in sizes)
+
+    def test_never(self):
+        # All places must be seen until it is known that there is no way.
+        for rule in [Rule("01110", [("11", "0")]), Rule("00000", [("011", "0"), ("110", "1")])]:
+            for check in [Check("101", "10"), Check("111", "01")]:
+                with in_good_time(SECONDS):
+                    self.assertEqual([first_unseen(rule, check, ["turn"], 0, how) for how in HOWS[:2]], [None] * 2)
+                    self.assertIsNone(first_unseen(Rule(rule.flag), check, ["turn"], 2, "shift"))
+                    self.assertIsNone(first_unseen(Rule(rule.flag), check, ["lose"], 2, "same"))
+                    self.assertIsNone(first_unseen(Rule(rule.flag), check, KINDS, 1, "same"))
+
+    def test_best_checks(self):
+        for rule in large_rules(8, 5, 3):
+            for kinds in [KINDS, ["turn"]]:
+                for how in HOWS:
+                    with in_good_time(SECONDS):
+                        told = best_checks(rule, 2, kinds, 2, how)
+                    self.assertIn(told, [("101",), ("111",), ("101", "111")])
+
+    def test_clean_rules(self):
+        for flag in ["01110", "00000", "01111", "11010", "01010"]:
+            with in_good_time(SECONDS):
+                self.assertLessEqual(set(cheapest(flag, 3)), set(clean_rules(flag, 3)))
+                self.assertLessEqual(set(clean_rules(flag, 2)), set(clean_rules(flag, 3)))
+
+    def test_somewhat_beyond(self):
+        rule, check = Rule("011110", [("0111", "0"), ("1010", "1")]), Check("1011", "110")
+        with in_good_time(60):
+            for how in HOWS:
+                self.assertEqual(example(rule, check, KINDS, 3, how) is None,
+                                 first_unseen(rule, check, KINDS, 3, how) is None)
+                self.assertGreaterEqual(count_unseen(rule, check, ["turn"], 8, 2, how), 0)
+            # If a one comes last, the flag begins with it.
+            told = [count_unseen(Rule("1111111"), Check(), ["turn"], 6, 3, how) for how in HOWS]
+            self.assertEqual(told, [20 * 2 ** 5, 0, 20 * 2 ** 5, 20 * 2 ** 6])
+            self.assertEqual(unseen_sizes(Rule("01110"), Check(), ["turn"], 1, "same", 40), tuple(range(1, 41)))
+            self.assertEqual(best_checks(Rule("011110"), 4, ["turn"], 2, "same"), ("10011", "11001"))
+            self.assertNotIn("flag 0111110 put 11111:0", clean_rules("0111110", 5))
+            self.assertEqual(cheapest("0111110", 5), ("flag 0111110 put 01111:0", "flag 0111110 put 1111:0"))
+
+
+class LimitsOfLive(unittest.TestCase):
+    def test_40_changes_and_300_bits(self):
+        ones, check = Rule("011110", [("0111", "0")]), Check("10011", "1111")
+        others = [Rule("000000", [("000", "1"), ("1111", "0")]), Rule("10"), ones]
+        with in_good_time(SECONDS):
+            for _ in range(50):
+                live = Live(ones, check)
+                seen = []
+                for at in range(40):
+                    seen.append((live.rule, live.heard, live.is_open, live.part, live.found))
+                    if at % 8 == 7:
+                        live.change(others[at % 3])
+                    elif at % 8 == 3:
+                        live.several([any_word(4), live.rule.flag, "", any_word(5)])
+                    else:
+                        live.hear(any_word(7))
+                self.assertEqual(len(live), 40)
+                self.assertGreater(len(live.heard), 250)
+                self.assertEqual(live.within(lambda given: [given.undo() for _ in range(41)]), [True] * 40 + [False])
+                for before in reversed(seen):
+                    self.assertIs(live.undo(), True)
+                    self.assertEqual((live.rule, live.heard, live.is_open, live.part, live.found), before)
+                self.assertIs(live.undo(), False)
+
+    def test_300_bits_one_by_one(self):
+        check = Check("10011", "0110")
+        with in_good_time(SECONDS):
+            for rule in [Rule("01110", [("11", "0")]), Rule("10"), Rule("000000", [("0", "1")])]:
+                for raw in ["0" * 300, "1" * 300, "01" * 150, (rule.flag * 150)[:300], any_word(300)]:
+                    live = Live(rule, check)
+                    told = [live.hear(bit) for bit in raw]
+                    self.assertEqual((sum(told, ()), len(live)), (live.found, 300))
+                    self.assertEqual(live.found, frames(rule, check, raw.partition(rule.flag)[2]))
+
+    def test_many_words(self):
+        live = Live(Rule("11"), Check())
+        with in_good_time(SECONDS):
+            self.assertEqual(len(live.several(["01"] * 2000)), 2000)
+            with self.assertRaises(Refused) as caught:
+                live.several(["01"] * 2000 + ["2"])
+        self.assertEqual((caught.exception.at, len(live), len(live.heard)), (2000, 1, 4000))
+
+    def test_desk(self):
+        desk = Desk()
+        with in_good_time(SECONDS):
+            for rule in large_rules(10, 5, 3):
+                desk.say("rule " + str(rule))
+                desk.say("check 111 start 01")
+                self.assertEqual([desk.say("turns " + how) for how in HOWS], [
+                    str(size).replace("None", "never") for size in (
+                        first_unseen(rule, Check("111", "01"), ["turn"], 1, how) for how in HOWS)])
+                data = any_word(300)
+                self.assertEqual(desk.say("send " + data), send(rule, Check("111", "01"), data))
+                desk.say("hear " + data)
+                self.assertEqual(desk.live.heard, data)
 
 
 if __name__ == "__main__":

@@ -1,10 +1,10 @@
 """Hits: wrong bits on a line, and how far they shift what stands behind them."""
 
 from unseenflips.errors import InvalidHits
-from unseenflips.lines import is_kept
+from unseenflips.lines import can_end
 from unseenflips.values import is_int
 from unseenflips.walks import reached
-from unseenflips.words import last_bits, other_bits
+from unseenflips.words import last_bits, other_bits, tail
 
 KINDS = ("double", "lose", "turn")
 
@@ -41,22 +41,22 @@ def hit(line, hits):
 
 
 def hear(rule, heard, bits):
-    """How a receiver goes on with bits that arrive: what was heard last, and how many bits it read.
+    """How a receiver goes on with bits that arrive: what was heard last, and the bits that it read.
 
     None if there is a flag, or a bit that is not the one that was put in.
     """
-    most = max(rule.longest, len(rule.flag) - 1)
-    read_bits = 0
+    read_bits = ""
     for bit in bits:
         due = rule.put(heard)
         if due is None:
-            read_bits += 1
+            read_bits += bit
         elif due != bit:
             return None
         heard += bit
         if heard.endswith(rule.flag):
             return None
-        heard = last_bits(heard, most)
+        # Only the beginning of a pattern or of a flag matters for what arrives later.
+        heard = tail(heard, [rule.flag, *rule.patterns()])
     return heard, read_bits
 
 
@@ -77,14 +77,14 @@ def places_behind(rule, kinds, place):
             if told is not None:
                 behind, read_bits = told
                 is_hit_now = was_hit or kind is not None
-                found.append((last_bits(sent + bit, rule.longest), behind, shift + read_bits - many, is_hit_now))
+                found.append((last_bits(sent + bit, rule.longest), behind, shift + len(read_bits) - many, is_hit_now))
     return found
 
 
 def is_end(rule, place):
     """Whether a message can end at a place behind a hit, so that it is read as another one."""
     sent, heard, shift, was_hit = place
-    return was_hit and rule.put(sent) is None and rule.put(heard) is None and is_kept(rule, heard)
+    return was_hit and rule.put(sent) is None and can_end(rule, heard)
 
 
 def shifts(rule, kinds):

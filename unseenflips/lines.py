@@ -39,6 +39,11 @@ def is_kept(rule, line):
     return (line + rule.flag).find(rule.flag) == len(line)
 
 
+def can_end(rule, line):
+    """Whether a line can be a whole body, as far as its end tells, and the flag behind it is the first one."""
+    return rule.put(line) is None and is_kept(rule, line)
+
+
 def send(rule, check, data):
     """The line for data: the body with the check bits, followed by the flag."""
     return body(rule, data + check.bits_for(data)) + rule.flag

@@ -101,6 +101,10 @@ class Rule:
         """The number of bits of the longest pattern, 0 without stuffs."""
         return longest_pattern(self.stuffs)
 
+    def patterns(self):
+        """The patterns of the stuffs."""
+        return [pattern for pattern, bit in self.stuffs]
+
     def put(self, line):
         """The bit that is put in behind this line, or None."""
         return bit_behind(self.stuffs, line)

@@ -39,3 +39,34 @@ def first_refused(step):
                     following.append((behind, message + bit))
         level = following
     return None
+
+
+def shortest_way(begin, onward, is_end):
+    """The marks of the steps on some shortest way from a place to an end, or None if there is none.
+
+    onward(place) is the list of the pairs (mark, place) that are one step further.
+    """
+    if is_end(begin):
+        return []
+    came = {begin: None}
+    level = [begin]
+    while level:
+        following = []
+        for place in level:
+            for mark, behind in onward(place):
+                if behind not in came:
+                    came[behind] = mark, place
+                    if is_end(behind):
+                        return marks_to(came, behind)
+                    following.append(behind)
+        level = following
+    return None
+
+
+def marks_to(came, place):
+    """The marks on the way to a place; for each place, came tells the last mark and the place ahead of it."""
+    marks = []
+    while came[place] is not None:
+        mark, place = came[place]
+        marks.append(mark)
+    return marks[::-1]

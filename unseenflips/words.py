@@ -21,11 +21,23 @@ def last_bits(word, many):
     return word[max(0, len(word) - many):]
 
 
+def tail(line, words):
+    """The longest end of a line with which one of these words begins."""
+    for at in range(len(line)):
+        end = line[at:]
+        if any([word.startswith(end) for word in words]):
+            return end
+    return ""
+
+
+def words_of(size):
+    """All words of so many bits, ascending."""
+    found = [""]
+    for _ in range(size):
+        found = [word + bit for word in found for bit in "01"]
+    return found
+
+
 def words_up_to(longest):
     """All words of 1 to so many bits, the first ones first."""
-    found = []
-    level = [""]
-    for _ in range(longest):
-        level = [word + bit for word in level for bit in "01"]
-        found += level
-    return found
+    return [word for size in range(1, longest + 1) for word in words_of(size)]
