@@ -26,7 +26,8 @@ class Hearing:
         if not is_opened and flag in since:
             is_opened = True
             since = since[since.find(flag) + len(flag):]
-        closed = frames(self.current, check, since) if is_opened else ()
+        # As long as there is no opening flag, there is no flag in these bits, so nothing is closed.
+        closed = frames(self.current, check, since)
         left = since.split(flag)[-1]
         return Hearing(self.current, self.bits + bits, is_opened, left, self.pairs + closed), closed
 
